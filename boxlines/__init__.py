@@ -1,0 +1,1 @@
+"""Rows of boxes broken over lines with least cost."""
