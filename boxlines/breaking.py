@@ -1,16 +1,11 @@
-"""The best breaking of a row into lines.
+"""The breakings of a row into lines: the best one, the greedy one, and what is one at all.
 
 A breaking's weight is one number that holds, one above the other, what its lines are overfull by,
 what they cost and how many they are. So of two breakings the lighter one is the better one, and the
 weight of a breaking is the sum of the weights of its lines.
 """
 
-WIDTH = 0
-SPACE = 3
-SHRINK = 5
-COST = 6
-
-NO_BREAK = -1
+from boxlines.item import COST, SHRINK, SPACE, WIDTH, may_end
 
 # Each unit is greater than all that lies below it can come to: there are at most 300 lines, and their
 # costs together are below 10^21 (a slack is below 10^9 to either side).
@@ -18,6 +13,23 @@ LINE_UNIT = 1
 COST_UNIT = 1000
 OVERFULL_UNIT = 1000000000000000000000000
 HEAVIEST = 1000000000000000000000000000000000000000000
+
+
+class Measure:
+    """The measure and the two indents that a breaking is told for."""
+
+    def __init__(self, width, first, indent):
+        self.width = width
+        self.first = first
+        self.indent = indent
+
+    def indent_at(self, begin):
+        """Give the indent of the line that begins with this item."""
+        return self.first if begin == 0 else self.indent
+
+    def room_at(self, begin):
+        """Give the room of the line that begins with this item."""
+        return self.width - self.indent_at(begin)
 
 
 class Edges:
@@ -44,8 +56,18 @@ class Edges:
             tight_edge += box[SPACE] - box[SHRINK]
 
 
-def best_breaking(boxes, measure, first, indent):
-    """Give the weight of the best breaking, and the number of each line's last item."""
+def is_breaking(boxes, ends):
+    """Tell whether lines may end with just these items."""
+    begin = 0
+    for end in ends:
+        if not begin <= end < len(boxes) or not may_end(boxes, end):
+            return False
+        begin = end + 1
+    return begin == len(boxes)
+
+
+def best_breaking(boxes, measure):
+    """Give the number of each line's last item in the best breaking."""
     edges = Edges(boxes)
     last = len(boxes) - 1
     line_ends = [last] * len(boxes)
@@ -55,15 +77,13 @@ def best_breaking(boxes, measure, first, indent):
     # Only the first line has a room of its own, so from the back each best breaking of the items from
     # one on is made of a line and a best breaking that is known already.
     for begin in range(last, -1, -1):
-        cost = boxes[begin][COST]
-        if begin < last and cost != NO_BREAK:
+        if begin < last and may_end(boxes, begin):
             ends = [begin] + ends
-            rests[begin] = LINE_UNIT + cost * COST_UNIT + weight
-        room = measure - (first if begin == 0 else indent)
-        choice = best_line(edges, begin, room, ends, rests)
+            rests[begin] = LINE_UNIT + boxes[begin][COST] * COST_UNIT + weight
+        choice = best_line(edges, begin, measure.room_at(begin), ends, rests)
         weight = choice[0]
         line_ends[begin] = choice[1]
-    return (weight, follow(line_ends))
+    return follow(line_ends)
 
 
 def best_line(edges, begin, room, ends, rests):
@@ -109,6 +129,43 @@ def follow(line_ends):
     return ends
 
 
-def weight_parts(weight):
-    """Give what the lines are overfull by, what they cost and how many they are."""
-    return [weight // OVERFULL_UNIT, weight % OVERFULL_UNIT // COST_UNIT, weight % COST_UNIT]
+def greedy_breaking(boxes, measure):
+    """Give the number of each line's last item if each line takes as many items as it can."""
+    edges = Edges(boxes)
+    ends = []
+    begin = 0
+    while begin < len(boxes):
+        end = greedy_line(boxes, edges, begin, measure.room_at(begin))
+        ends.append(end)
+        begin = end + 1
+    return ends
+
+
+def greedy_line(boxes, edges, begin, room):
+    """Give the last item at which a line may end without being overfull, else the first at which it may."""
+    tight_limit = edges.tight_begins[begin] + room
+    chosen = None
+    for end in range(begin, len(boxes)):
+        if may_end(boxes, end):
+            # A line that is overfull stays so with each further item.
+            if chosen is not None and edges.tight_stops[end] > tight_limit:
+                break
+            chosen = end
+    return chosen
+
+
+def natural_width(boxes):
+    """Give the natural width of the whole row as one line."""
+    return Edges(boxes).stops[-1] if boxes else 0
+
+
+def narrowest_measure(boxes):
+    """Give the smallest measure with which no line of the best breaking is overfull, without indents."""
+    edges = Edges(boxes)
+    widest = 0
+    begin = 0
+    for end in range(len(boxes)):
+        if may_end(boxes, end):
+            widest = max(widest, edges.tight_stops[end] - edges.tight_begins[begin])
+            begin = end + 1
+    return widest

@@ -1,10 +1,11 @@
 """The calls on a row of items, told one behind another in one list of whole numbers."""
 
-from boxlines.breaking import SHRINK, SPACE, best_breaking, weight_parts
+from boxlines.breaking import Measure, best_breaking, greedy_breaking, is_breaking, narrowest_measure, natural_width
+from boxlines.item import SHRINK, SPACE
+from boxlines.setting import item_places, line_numbers, outer_box, set_lines, totals
 
 ITEM_SIZE = 7
 MOST_ITEMS = 300
-MOST_MEASURE = 100000000
 
 # Width, height, depth, space, stretch, shrink, cost.
 LEAST_NUMBERS = (0, -1000000, -1000000, 0, 0, 0, -1)
@@ -16,6 +17,7 @@ WRONG_NUMBER = -2
 TOO_MANY = -3
 WRONG_MEASURE = -4
 NO_ITEM = -5
+NO_BREAKING = -6
 
 ADD = 0
 PUT = 1
@@ -23,10 +25,24 @@ CHANGE = 2
 TAKE = 3
 ROW = 4
 BEST = 5
+WORTH = 6
+JUDGE = 7
+GREEDY = 8
+LINES = 9
+PLACES = 10
+BOX = 11
+NATURAL = 12
+NARROWEST = 13
 
 # For each call how many whole numbers it is given, and whether a list follows them.
-WHOLE_COUNTS = (0, 1, 1, 1, 0, 3, 3)
-HAS_LIST = (True, True, True, False, False, False, False)
+WHOLE_COUNTS = (0, 1, 1, 1, 0, 3, 3, 3, 3, 3, 6, 5, 0, 0)
+HAS_LIST = (True, True, True, False, False, False, False, True, False, False, False, False, False, False)
+
+# The greatest that the whole numbers of a call with a measure may be; the least is 0 for each.
+# Measure, first indent, indent; for places even, lead and gap; for box lead and gap.
+MOST_OF_MEASURE = (100000000, 100000000, 100000000)
+MOST_OF_PLACES = (100000000, 100000000, 100000000, 1, 1000000, 1000000)
+MOST_OF_BOX = (100000000, 100000000, 100000000, 1000000, 1000000)
 
 
 def cut(numbers):
@@ -59,12 +75,21 @@ def item_refusal(numbers):
     return numbers_refusal(numbers)
 
 
-def measure_refusal(wholes):
-    """Give the refusal of a measure and its indents, or DONE."""
-    for number in wholes:
-        if not 0 <= number <= MOST_MEASURE:
-            return WRONG_MEASURE
-    return DONE
+def most_wholes(call):
+    """Give the greatest that each whole number of a call with a measure may be."""
+    if call == PLACES:
+        return MOST_OF_PLACES
+    if call == BOX:
+        return MOST_OF_BOX
+    return MOST_OF_MEASURE
+
+
+def in_range(wholes, mosts):
+    """Tell whether each whole number of a call with a measure is in its range."""
+    for number, most in zip(wholes, mosts):
+        if not 0 <= number <= most:
+            return False
+    return True
 
 
 def add(boxes, numbers):
@@ -113,18 +138,32 @@ def row(boxes):
     return found
 
 
-def best(boxes, wholes):
-    refusal = measure_refusal(wholes)
-    if refusal != DONE:
-        return [refusal]
-    return [DONE] + best_breaking(boxes, wholes[0], wholes[1], wholes[2])[1]
+def judge(boxes, measure, ends):
+    if not is_breaking(boxes, ends):
+        return [NO_BREAKING]
+    return [DONE] + totals(set_lines(boxes, ends, measure))
 
 
-def worth(boxes, wholes):
-    refusal = measure_refusal(wholes)
-    if refusal != DONE:
-        return [refusal]
-    return [DONE] + weight_parts(best_breaking(boxes, wholes[0], wholes[1], wholes[2])[0])
+def answer_with_measure(boxes, call, wholes, numbers):
+    """Give what a call with a measure answers."""
+    if not in_range(wholes, most_wholes(call)):
+        return [WRONG_MEASURE]
+    measure = Measure(wholes[0], wholes[1], wholes[2])
+    if call == JUDGE:
+        return judge(boxes, measure, numbers)
+    if call == GREEDY:
+        return [DONE] + greedy_breaking(boxes, measure)
+    ends = best_breaking(boxes, measure)
+    if call == BEST:
+        return [DONE] + ends
+    best_lines = set_lines(boxes, ends, measure)
+    if call == WORTH:
+        return [DONE] + totals(best_lines)
+    if call == LINES:
+        return [DONE] + line_numbers(best_lines)
+    if call == PLACES:
+        return [DONE] + item_places(boxes, best_lines, wholes[3], wholes[4], wholes[5])
+    return [DONE] + outer_box(best_lines, wholes[3], wholes[4])
 
 
 def answer(boxes, call, wholes, numbers):
@@ -139,9 +178,11 @@ def answer(boxes, call, wholes, numbers):
         return take(boxes, wholes[0])
     if call == ROW:
         return row(boxes)
-    if call == BEST:
-        return best(boxes, wholes)
-    return worth(boxes, wholes)
+    if call == NATURAL:
+        return [DONE, natural_width(boxes)]
+    if call == NARROWEST:
+        return [DONE, narrowest_measure(boxes)]
+    return answer_with_measure(boxes, call, wholes, numbers)
 
 
 def answers(calls):

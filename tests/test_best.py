@@ -4,11 +4,9 @@ import random
 import unittest
 
 from boxlines.rows import answers
-from tests.telling import (FAR, add, all_breakings, best, box, breaking_worth, change, flat, forward_best,
-                           plain_best, put, row, run, take, worth)
-
-EXAMPLE = [10, 7, 2, 3, 2, 1, 0, 10, 7, 2, 3, 2, 1, 5, 10, 8, 2, 3, 2, 1, 0, 10, 7, 3, 0, 0, 0, -1]
-MOST = 100000000
+from tests.telling import (EXAMPLE, FAR, MOST, add, all_breakings, best, box, breaking_worth, change, cut, flat,
+                           forward_best, long_row, plain_best, put, range_runs, row, run, small_measure, small_row,
+                           take, wide_measure, wide_row, worth)
 
 
 def both(boxes, measure, first=0, indent=0):
@@ -31,7 +29,7 @@ class Examples(unittest.TestCase):
         self.assertEqual(answers(calls), told)
 
     def test_the_plain_words_agree(self):
-        boxes = [tuple(EXAMPLE[at:at + 7]) for at in range(0, 28, 7)]
+        boxes = cut(EXAMPLE)
         self.assertEqual(breaking_worth(boxes, (0, 1, 2, 3), 25, 0, 0), (0, 680, 4))
         self.assertEqual(plain_best(boxes, 25, 0, 0), ([1, 3], [0, 9, 2]))
         self.assertEqual(len(all_breakings(boxes)), 8)
@@ -171,18 +169,11 @@ class Better(unittest.TestCase):
 
 
 class Ranges(unittest.TestCase):
-    def test_both_ends_and_one_beyond(self):
-        for place in range(3):
-            for number, refused in ((0, False), (MOST, False), (-1, True), (MOST + 1, True), (-FAR, True), (FAR, True)):
-                wholes = [5, 5, 5]
-                wholes[place] = number
-                for boxes in ([], [box(5)]):
-                    told = run(add(*boxes), best(*wholes), worth(*wholes), row())
-                    expected = [[-4], [-4]]
-                    if not refused:
-                        ends, figures = plain_best(boxes, *wholes)
-                        expected = [[0] + ends, [0] + figures]
-                    self.assertEqual(told, [[0]] + expected + [[0] + flat(boxes)])
+    def test_both_ends_and_beyond(self):
+        for call, place in ((best, 0), (worth, 1)):
+            plain = lambda *given: plain_best(*given)[place]
+            for told, expected in range_runs(call, plain, [5, 5, 5], [MOST, MOST, MOST]):
+                self.assertEqual(told, expected)
 
     def test_several_out_of_range(self):
         self.assertEqual(run(best(-1, -1, -1), worth(MOST + 1, -FAR, FAR), best(0, 0, MOST + 1)), [[-4], [-4], [-4]])
@@ -213,30 +204,6 @@ class AsTheRowChanges(unittest.TestCase):
         self.assertEqual(told, [[0], [0, 0, 1], [-5], [-5], [-5], [-1], [-4], [0, 0, 1]])
 
 
-def small_row(dice):
-    """A row small and plain enough that breakings often tie."""
-    widths = dice.choice(((0, 1), (0, 5, 10), (10,), (1, 2, 3, 4), (0, 7, 30)))
-    spaces = dice.choice(((0,), (0, 1, 2), (3,), (0, 10)))
-    costs = dice.choice(((0,), (-1, 0), (-1, 0, 1, 4, 9), (0, 100), (-1, -1, -1, 0), (0, 1, 2, 3, 1000000)))
-    found = []
-    for k in range(dice.randint(0, 9)):
-        space = dice.choice(spaces)
-        found.append(box(dice.choice(widths), space, dice.choice((0, space, space // 2)), dice.choice(costs)))
-    return found
-
-
-def wide_row(dice):
-    """A row with numbers from all over their ranges, the ends among them."""
-    found = []
-    for k in range(dice.randint(1, 9)):
-        space = dice.choice((0, 1, 999999, 1000000, dice.randint(0, 1000000)))
-        shrink = dice.choice((0, space, dice.randint(0, space)))
-        width = dice.choice((0, 1, 1000000, dice.randint(0, 1000000)))
-        found.append(box(width, space, shrink, dice.choice((-1, 0, 1000000, dice.randint(0, 1000000))),
-                         dice.randint(0, 1000000), dice.randint(-1000000, 1000000), dice.randint(-1000000, 1000000)))
-    return found
-
-
 class AllBreakings(unittest.TestCase):
     def compare(self, boxes, triples):
         calls = [add(*boxes)]
@@ -251,17 +218,13 @@ class AllBreakings(unittest.TestCase):
         dice = random.Random(1)
         for turn in range(3000):
             boxes = small_row(dice)
-            self.compare(boxes, [(dice.choice((0, 1, 2, 3, 5, 8, 10, 20, 23, 30, 46)),
-                                  dice.choice((0, 0, 1, 5, 10, 40)),
-                                  dice.choice((0, 0, 1, 5, 10, 40))) for k in range(3)])
+            self.compare(boxes, [small_measure(dice) for k in range(3)])
 
     def test_wide_rows(self):
         dice = random.Random(2)
         for turn in range(600):
             boxes = wide_row(dice)
-            self.compare(boxes, [(dice.choice((0, MOST, dice.randint(0, MOST), dice.randint(0, 6000000))),
-                                  dice.choice((0, MOST, dice.randint(0, 2000000))),
-                                  dice.choice((0, MOST, dice.randint(0, 2000000)))) for k in range(3)])
+            self.compare(boxes, [wide_measure(dice) for k in range(3)])
 
     def test_every_small_measure(self):
         dice = random.Random(3)
@@ -280,10 +243,7 @@ class AllBreakings(unittest.TestCase):
     def test_long_rows(self):
         dice = random.Random(6)
         for turn in range(16):
-            boxes = []
-            while len(boxes) < 290:
-                boxes += (small_row if turn % 2 else wide_row)(dice)
-            boxes = (boxes + [box(3, 2, 1)] * 10)[:300]
+            boxes = long_row(dice, (wide_row, small_row)[turn % 2])
             unit = 1 if turn % 2 else 100000
             triple = (dice.randint(0, 200) * unit, dice.choice((0, 7 * unit)), dice.choice((0, 9 * unit, 300 * unit)))
             self.assertEqual(both(boxes, *triple), forward_best(boxes, *triple))
